@@ -1,0 +1,1 @@
+"""Branchorders: code of compares and jumps over words of any width."""

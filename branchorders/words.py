@@ -1,0 +1,73 @@
+"""Words: their signed values, their outcomes, and how their bits are changed."""
+
+from branchorders.errors import InvalidWidth, InvalidWords
+
+
+def check_width(width):
+    """Raise InvalidWidth if a width is less than 1."""
+    if width < 1:
+        raise InvalidWidth(width)
+
+
+def check_words(width, words):
+    """Raise InvalidWords for the first integer that is no word of a valid width."""
+    limit = 1 << width
+    for index, word in enumerate(words):
+        if word < 0 or word >= limit:
+            raise InvalidWords(index)
+
+
+def signed(width, word):
+    """Return the signed value of a word."""
+    check_width(width)
+    check_words(width, (word,))
+    return _signed_value(width, word)
+
+
+def outcome(width, first, second):
+    """Return the outcome of two words."""
+    check_width(width)
+    check_words(width, (first, second))
+    if first == second:
+        return "E"
+    if _signed_value(width, first) < _signed_value(width, second):
+        return "LB" if first < second else "LA"
+    return "GB" if first < second else "GA"
+
+
+def flipped(width, words):
+    """Return the words with the sign bit of each one changed."""
+    check_width(width)
+    check_words(width, words)
+    return _changed(words, _sign_bit(width))
+
+
+def inverted(width, words):
+    """Return the words with all bits of each one changed."""
+    check_width(width)
+    check_words(width, words)
+    return _changed(words, (1 << width) - 1)
+
+
+def extended(width, words, wider, keep_sign):
+    """Return the words of a wider width with the same signed values, or with the same integers."""
+    check_width(width)
+    check_words(width, words)
+    if wider < width:
+        raise InvalidWidth(wider)
+    if not keep_sign:
+        return tuple(words)
+    added_bits = (1 << wider) - (1 << width)
+    return tuple([word + added_bits if word >= _sign_bit(width) else word for word in words])
+
+
+def _sign_bit(width):
+    return 1 << (width - 1)
+
+
+def _signed_value(width, word):
+    return word - (1 << width) if word >= _sign_bit(width) else word
+
+
+def _changed(words, bits):
+    return tuple([word ^ bits for word in words])
