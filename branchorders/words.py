@@ -17,6 +17,21 @@ def check_words(width, words):
             raise InvalidWords(index)
 
 
+def sign_bit(width):
+    """Return the least negative word of a valid width."""
+    return 1 << (width - 1)
+
+
+def outcome_by_cut(cut, first, second):
+    """Return the outcome of two words, or of two ranks, of which those from the cut on are negative."""
+    if first == second:
+        return "E"
+    mixed = (first < cut) != (second < cut)
+    if first < second:
+        return "GB" if mixed else "LB"
+    return "LA" if mixed else "GA"
+
+
 def signed(width, word):
     """Return the signed value of a word."""
     check_width(width)
@@ -28,18 +43,14 @@ def outcome(width, first, second):
     """Return the outcome of two words."""
     check_width(width)
     check_words(width, (first, second))
-    if first == second:
-        return "E"
-    if _signed_value(width, first) < _signed_value(width, second):
-        return "LB" if first < second else "LA"
-    return "GB" if first < second else "GA"
+    return outcome_by_cut(sign_bit(width), first, second)
 
 
 def flipped(width, words):
     """Return the words with the sign bit of each one changed."""
     check_width(width)
     check_words(width, words)
-    return _changed(words, _sign_bit(width))
+    return _changed(words, sign_bit(width))
 
 
 def inverted(width, words):
@@ -58,15 +69,11 @@ def extended(width, words, wider, keep_sign):
     if not keep_sign:
         return tuple(words)
     added_bits = (1 << wider) - (1 << width)
-    return tuple([word + added_bits if word >= _sign_bit(width) else word for word in words])
-
-
-def _sign_bit(width):
-    return 1 << (width - 1)
+    return tuple([word + added_bits if word >= sign_bit(width) else word for word in words])
 
 
 def _signed_value(width, word):
-    return word - (1 << width) if word >= _sign_bit(width) else word
+    return word - (1 << width) if word >= sign_bit(width) else word
 
 
 def _changed(words, bits):

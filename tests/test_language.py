@@ -1,4 +1,7 @@
-"""The rules of LANGUAGE.md that a short look at the files can tell: L1, L2, L3, L8, L10, L14, L25 and L27."""
+"""The rules of LANGUAGE.md that a short look at the files can tell.
+
+They are L1, L2, L3, L4, L7, L8, L10, L14, L15, L16, L25 and L27.
+"""
 
 import ast
 import builtins
@@ -43,6 +46,17 @@ def is_docstring(node):
     return isinstance(node, ast.Expr) and isinstance(node.value, ast.Constant) and isinstance(node.value.value, str)
 
 
+def imported(tree):
+    """The names that a file imports, each with the module that it comes from."""
+    return {alias.name: node.module for node in tree.body if isinstance(node, ast.ImportFrom) for alias in node.names}
+
+
+def names_defined(tree):
+    """The names that a file binds itself at module level."""
+    found = {node.name for node in tree.body if isinstance(node, (ast.FunctionDef, ast.ClassDef))}
+    return found | {node.targets[0].id for node in tree.body if isinstance(node, ast.Assign)}
+
+
 class LanguageTest(unittest.TestCase):
 
     def test_files(self):
@@ -81,12 +95,66 @@ class LanguageTest(unittest.TestCase):
                     self.assertIsInstance(node, kinds, f"{name}:{node.lineno}")
 
     def test_builtins(self):
-        known = set(dir(builtins))
+        # A doctest that ran before leaves `_` among the builtins.
+        known = set(dir(builtins)) - {"_"}
         for name, tree in trees():
             for node in ast.walk(tree):
                 if isinstance(node, ast.Name) and node.id in known:
                     self.assertIn(node.id, BUILTINS, f"{name}:{node.lineno}")
                     self.assertIsInstance(node.ctx, ast.Load, f"{name}:{node.lineno}")
+                elif isinstance(node, ast.arg):
+                    self.assertNotIn(node.arg, known, f"{name}:{node.lineno}")
+            for node in tree.body:
+                if isinstance(node, (ast.FunctionDef, ast.ClassDef)):
+                    self.assertNotIn(node.name, known, f"{name}:{node.lineno}")
+
+    def test_names_of_imports_and_classes(self):
+        """No parameter and no local variable has the name of an import or a class of its file."""
+        for name, tree in trees():
+            taken = {node.name for node in tree.body if isinstance(node, ast.ClassDef)} | set(imported(tree))
+            for node in ast.walk(tree):
+                if isinstance(node, ast.Name) and isinstance(node.ctx, ast.Store):
+                    self.assertNotIn(node.id, taken, f"{name}:{node.lineno}")
+                elif isinstance(node, ast.arg):
+                    self.assertNotIn(node.arg, taken, f"{name}:{node.lineno}")
+
+    def test_imports_of_own_names(self):
+        """Each import names the file that defines the name, and is used; no two files import from each other."""
+        defined = {name: names_defined(tree) for name, tree in trees()}
+        above = {}
+        for name, tree in trees():
+            used = {node.id for node in ast.walk(tree) if isinstance(node, ast.Name)}
+            above[name] = set()
+            for imported_name, module in imported(tree).items():
+                self.assertIn(imported_name, used, name)
+                if module.startswith("branchorders."):
+                    file = module.partition(".")[2] + ".py"
+                    self.assertIn(imported_name, defined[file], name)
+                    above[name].add(file)
+        while above:
+            lowest = [name for name, files_above in above.items() if not files_above & set(above)]
+            self.assertTrue(lowest, above)
+            for name in lowest:
+                del above[name]
+
+    def test_no_generator_expressions(self):
+        """A class has `__eq__`, and so `any`, `sum` and the like take lists (L7)."""
+        for name, tree in trees():
+            for node in ast.walk(tree):
+                self.assertNotIsInstance(node, ast.GeneratorExp, f"{name}: {getattr(node, 'lineno', 0)}")
+
+    def test_decorators(self):
+        for name, tree in trees():
+            for node in ast.walk(tree):
+                for decorator in getattr(node, "decorator_list", ()):
+                    self.assertIsInstance(node, ast.FunctionDef, name)
+                    self.assertIn(ast.unparse(decorator), ("property", "staticmethod", "classmethod"), name)
+
+    def test_exponents(self):
+        for name, tree in trees():
+            for node in ast.walk(tree):
+                if isinstance(node, ast.BinOp) and isinstance(node.op, ast.Pow):
+                    self.assertIsInstance(node.right, ast.Constant, f"{name}:{node.lineno}")
 
     def test_methods(self):
         own = {node.name for _, tree in trees() for node in ast.walk(tree) if isinstance(node, ast.FunctionDef)}
