@@ -4,7 +4,7 @@ from itertools import combinations
 
 from branchorders.errors import InvalidKnowledge
 from branchorders.outcomes import OUTCOMES, ordered_outcomes
-from branchorders.rankings import all_rankings, check_items, count_words, least_words, outcome_between
+from branchorders.rankings import all_rankings, check_items, count_words, first_words, outcome_between
 from branchorders.words import check_width
 
 
@@ -50,8 +50,7 @@ def first_fulfilling(items, knowledge, width):
     """Return the first words that fulfil knowledge, or None."""
     check_knowledge(items, knowledge)
     check_width(width)
-    found = [least_words(ranking, width) for ranking in _fulfilling(items, knowledge)]
-    return min([words for words in found if words is not None], default=None)
+    return first_words(_fulfilling(items, knowledge), width)
 
 
 def _can_be_known(items, known):

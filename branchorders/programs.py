@@ -19,6 +19,9 @@ FORMS = {
     "stop": "",
 }
 
+# These rows end the run with a fault if the flag is not set.
+FLAG_WORDS = ("cmov", "jif")
+
 
 def register_names(inputs):
     """Return the names of the registers of a program with so many inputs."""
@@ -42,6 +45,7 @@ class Program:
                 raise InvalidProgram(index)
         self._inputs = inputs
         self._rows = list(rows)
+        self._placed = tuple([_placed_row(row, names) for row in rows])
 
     @property
     def inputs(self):
@@ -52,6 +56,11 @@ class Program:
     def rows(self):
         """A new list of the rows."""
         return list(self._rows)
+
+    @property
+    def placed(self):
+        """The rows with the places of registers in place of their names, and with outcomes in place of conditions."""
+        return self._placed
 
     def __len__(self):
         return len(self._rows)
@@ -97,6 +106,17 @@ def _is_item(kind, item, names, many_rows):
     if kind == "C":
         return item in CONDITIONS
     return type(item) is int and 0 <= item <= many_rows
+
+
+def _placed_row(row, names):
+    placed = [_placed_item(kind, item, names) for kind, item in parts_of(row)]
+    return (row[0], *placed)
+
+
+def _placed_item(kind, item, names):
+    if kind == "R":
+        return names.index(item)
+    return CONDITIONS[item] if kind == "C" else item
 
 
 def _with_moved_target(row, least, by):

@@ -55,7 +55,7 @@ def least_words(ranking, width):
     """Return the first words with a ranking, or None if the width is too little for it."""
     check_ranking(ranking)
     check_width(width)
-    if max(_ranks_by_sign(ranking)) > sign_bit(width):
+    if not _fits(ranking, width):
         return None
     ranks, cut = ranking
     # Each word is the least one that it can be, and so these words are the first ones.
@@ -101,6 +101,18 @@ def all_rankings(items):
     return [(ranks, cut) for ranks in found for cut in range(max(ranks) + 2)]
 
 
+def rankings_at(items, width):
+    """Return the list of the rankings that words of a width have, in order; of all rankings if the width is None."""
+    return [ranking for ranking in all_rankings(items) if width is None or _fits(ranking, width)]
+
+
+def first_words(rankings, width):
+    """Return the first words of a width, or of any if it is None, that have one of some rankings; None if none has."""
+    # A ranking has its least words at its least width: where more bits change them, they make them greater.
+    found = [least_words(ranking, least_width(ranking) if width is None else width) for ranking in rankings]
+    return min([words for words in found if words is not None], default=None)
+
+
 def _is_ranking(ranking):
     if len(ranking) != 2 or type(ranking[0]) is not tuple:
         return False
@@ -115,6 +127,11 @@ def _ranks_by_sign(ranking):
     """Return how many different ranks are not negative, and how many are negative."""
     ranks, cut = ranking
     return (cut, len(set(ranks)) - cut)
+
+
+def _fits(ranking, width):
+    """Return whether there are enough words of both signs for a ranking."""
+    return max(_ranks_by_sign(ranking)) <= sign_bit(width)
 
 
 def _gaps(ranks):

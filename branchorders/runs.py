@@ -2,7 +2,7 @@
 
 from branchorders.errors import InvalidNumber, InvalidRanking, InvalidWords
 from branchorders.rankings import check_ranking
-from branchorders.walks import first_state, placed_rows, walk
+from branchorders.walks import walk
 from branchorders.words import check_width, check_words, sign_bit
 
 
@@ -24,7 +24,7 @@ def count_steps(program, width, words):
     """Return the number of steps of a run, or None if it is endless."""
     check_width(width)
     check_input(program, width, words)
-    states, _, ending = walk(placed_rows(program), sign_bit(width), first_state(words))
+    states, _, ending = walk(program.placed, sign_bit(width), words)
     return None if ending == "endless" else len(states)
 
 
@@ -42,7 +42,7 @@ def steps(program, width, words):
     """Yield the row of each step with the flag behind it, up to the end or until a state has come again."""
     check_width(width)
     check_input(program, width, words)
-    states, last, _ = walk(placed_rows(program), sign_bit(width), first_state(words))
+    states, last, _ = walk(program.placed, sign_bit(width), words)
     for state, behind in zip(states, states[1:] + [last]):
         yield (state[0], behind[2])
 
@@ -53,14 +53,13 @@ def behaviour(program, ranking):
     ranks, cut = ranking
     if len(ranks) != program.inputs:
         raise InvalidRanking(ranking)
-    # Code that only compares and moves does with the ranks what it does with the words.
     ending, outs, ring = _behaviour_of(program, cut, ranks)
     return (ending, tuple([ranks.index(rank) for rank in outs]), tuple([ranks.index(rank) for rank in ring]))
 
 
 def _behaviour_of(program, cut, values):
-    rows = placed_rows(program)
-    states, last, ending = walk(rows, cut, first_state(values))
+    rows = program.placed
+    states, last, ending = walk(rows, cut, values)
     if ending != "endless":
         return (ending, _outputs(rows, states), ())
     again = states.index(last)

@@ -2,17 +2,11 @@
 
 A state is a tuple (row, values, flag): the row that comes next, what the registers hold, and the flag or None.
 The values are words, or ranks in place of words; those from a cut on are negative. The row is None behind a `stop`.
+The rows are the placed rows of a program.
 """
 
-from branchorders.outcomes import CONDITIONS
-from branchorders.programs import parts_of, register_names
+from branchorders.programs import FLAG_WORDS
 from branchorders.words import outcome_by_cut
-
-
-def placed_rows(program):
-    """Return the rows with places in place of registers, and with the outcomes in place of conditions."""
-    names = register_names(program.inputs)
-    return [_placed_row(row, names) for row in program.rows]
 
 
 def first_state(values):
@@ -25,7 +19,7 @@ def ending_at(rows, state):
     row, _, flag = state
     if row is None or row == len(rows):
         return "stop"
-    if rows[row][0] in ("cmov", "jif") and flag is None:
+    if rows[row][0] in FLAG_WORDS and flag is None:
         return "fault"
     return None
 
@@ -42,20 +36,26 @@ def state_behind(rows, cut, state):
     if word == "cmp":
         flag = outcome_by_cut(cut, values[row[1]], values[row[2]])
     elif word == "mov" or (word == "cmov" and flag in row[1]):
-        values = _with_value(values, row[-2], values[row[-1]])
+        values = with_value(values, row[-2], values[row[-1]])
     elif word == "swap":
-        half_swapped = _with_value(values, row[1], values[row[2]])
-        values = _with_value(half_swapped, row[2], values[row[1]])
+        half_swapped = with_value(values, row[1], values[row[2]])
+        values = with_value(half_swapped, row[2], values[row[1]])
     return (number + 1, values, flag)
 
 
-def walk(rows, cut, state):
+def with_value(values, place, value):
+    """Return the values with another one at a place."""
+    return (*values[:place], value, *values[place + 1:])
+
+
+def walk(rows, cut, values):
     """Return the list of the states in which a step is done, the state behind them, and the ending.
 
     If the ending is `endless`, the state behind them is the one of them that comes again.
     """
     # A dict keeps the order in which the states came, and tells quickly whether one has come before.
     passed = {}
+    state = first_state(values)
     ending = ending_at(rows, state)
     while ending is None:
         passed[state] = True
@@ -64,16 +64,14 @@ def walk(rows, cut, state):
     return (list(passed), state, ending)
 
 
-def _placed_row(row, names):
-    placed = [_placed_item(kind, item, names) for kind, item in parts_of(row)]
-    return (row[0], *placed)
+def ranked_walk(program, ranking):
+    """Return the same for a run with the ranks of a ranking in place of words."""
+    # Code that only compares and moves does with the ranks what it does with the words.
+    ranks, cut = ranking
+    return walk(program.placed, cut, ranks)
 
 
-def _placed_item(kind, item, names):
-    if kind == "R":
-        return names.index(item)
-    return CONDITIONS[item] if kind == "C" else item
-
-
-def _with_value(values, place, value):
-    return (*values[:place], value, *values[place + 1:])
+def states_of(program, ranking):
+    """Return the list of the states to which the run with the ranks of a ranking comes, the one at its end included."""
+    states, last, _ = ranked_walk(program, ranking)
+    return states + [last]

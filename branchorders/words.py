@@ -9,12 +9,22 @@ def check_width(width):
         raise InvalidWidth(width)
 
 
+def check_width_if_any(width):
+    """Raise InvalidWidth if a width is less than 1; None stands for all widths."""
+    if width is not None:
+        check_width(width)
+
+
 def check_words(width, words):
     """Raise InvalidWords for the first integer that is no word of a valid width."""
-    limit = 1 << width
     for index, word in enumerate(words):
-        if word < 0 or word >= limit:
+        if not is_word(width, word):
             raise InvalidWords(index)
+
+
+def is_word(width, word):
+    """Return whether an integer is a word of a valid width."""
+    return 0 <= word < 1 << width
 
 
 def sign_bit(width):

@@ -1,12 +1,17 @@
 """The document's rankings, knowledge and runs once more, by words and as plainly as can be, and drawn inputs."""
 
+import functools
 import itertools
 
+from branchorders.programs import Program
 from helpers import MEANINGS, OUTCOMES, all_words, outcome_of, signed_of
 
 HOLDS = dict(MEANINGS)
 
 INPUT_NAMES = ("p", "q", "r", "s")
+
+# Widths with enough words of both signs for all rankings, by the number of items.
+ENOUGH = {1: 1, 2: 2, 3: 3, 4: 3}
 
 
 def ranking_by_words(width, words):
@@ -56,8 +61,9 @@ def names_for(inputs):
 class Model:
     """A run by the words of the document, done as far as it goes, or until a state comes again.
 
-    `trace` has the row of each step and the flag behind it, `outs` the outputs, and `outs_before` tells how many
-    outputs came before the state that came again.
+    `trace` has the row of each step and the flag behind it, `visits` the rows to which the run came with the registers
+    and the flag there, `outs` the outputs, `jumps` whether each `jif` jumped; `outs_before` and `jumps_before` tell
+    how many of these came before the state that came again.
     """
 
     def __init__(self, program, width, words):
@@ -65,18 +71,20 @@ class Model:
         names = names_for(program.inputs)
         self.registers = dict(zip(names, words + (words[0], words[0])))
         self.row, self.flag, self.ending = 0, None, None
-        self.trace, self.outs = [], []
-        outs_at = {}
+        self.trace, self.visits, self.outs, self.jumps = [], [], [], []
+        told_at = {}
         while self.ending is None:
             state = (self.row, tuple(self.registers[name] for name in names), self.flag)
-            if state in outs_at:
-                self.ending, self.outs_before = "endless", outs_at[state]
+            if state in told_at:
+                self.ending = "endless"
+                self.outs_before, self.jumps_before = told_at[state]
             else:
-                outs_at[state] = len(self.outs)
+                told_at[state] = (len(self.outs), len(self.jumps))
                 self.do_row()
 
     def do_row(self):
         row = self.row
+        self.visits.append((row, dict(self.registers), self.flag))
         if row == len(self.rows):
             self.ending = "stop"
             return
@@ -105,7 +113,8 @@ class Model:
         self.row = target
 
     def do_jif(self, condition, target):
-        if self.flag in HOLDS[condition]:
+        self.jumps.append(self.flag in HOLDS[condition])
+        if self.jumps[-1]:
             self.row = target
 
     def do_out(self, name):
@@ -113,6 +122,17 @@ class Model:
 
     def do_stop(self):
         self.ending = "stop"
+
+    def rows_reached(self):
+        return {row for row, _, _ in self.visits}
+
+    def decisions(self, most):
+        """The first decisions; a run that is endless goes on with those behind the state that came again."""
+        made = self.jumps[:]
+        if self.ending == "endless" and len(made) > self.jumps_before:
+            while len(made) < most:
+                made += self.jumps[self.jumps_before:]
+        return made[:most]
 
     def behaviour(self):
         if self.ending != "endless" or self.outs_before == len(self.outs):
@@ -144,3 +164,27 @@ def drawn_row(random, names, many_rows):
 
 def drawn_rows(random, inputs, many):
     return [drawn_row(random, names_for(inputs), many) for _ in range(many)]
+
+
+def drawn_program(random, inputs, many):
+    """A program of so many rows, at least one, that begins with a compare, as without one most runs fault."""
+    names = names_for(inputs)
+    return Program(inputs, [("cmp", random.choice(names), random.choice(names))] + drawn_rows(random, inputs, many)[1:])
+
+
+@functools.lru_cache(maxsize=16)
+def models_of_rows(inputs, rows, width):
+    program = Program(inputs, list(rows))
+    return [(words, Model(program, width, words)) for words in tuples_of_words(width, inputs)]
+
+
+def models_at(program, width):
+    """All words of a width in order, each with the model of its run."""
+    return models_of_rows(program.inputs, tuple(program.rows), width)
+
+
+def least_tuples(width, items):
+    """Tuples of words in order, among which are the first words of each ranking."""
+    half = 2 ** (width - 1)
+    near = sorted({start + step for start in (0, half) for step in range(min(items, half))})
+    return list(itertools.product(near, repeat=items))

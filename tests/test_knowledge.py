@@ -9,12 +9,9 @@ from branchorders import knowledge as knowledge_file
 from branchorders.errors import InvalidKnowledge, InvalidNumber, InvalidWidth
 from branchorders.knowledge import closure, contradiction, count_fulfilling, first_fulfilling
 from helpers import HUGE, OUTCOMES, BranchTestCase
-from models import drawn_knowledge, fulfils, outcomes_by_items, rankings_by_definition, tuples_of_words
+from models import ENOUGH, drawn_knowledge, fulfils, outcomes_by_items, rankings_by_definition, tuples_of_words
 
 FUNCTIONS = (closure, contradiction, count_fulfilling, first_fulfilling)
-
-# Widths with enough words of both signs, by the number of items.
-ENOUGH = {1: 1, 2: 2, 3: 3, 4: 3}
 
 WRONG_OUTCOMES = ("", "e", "lb", "L", "be", "ELB", " E", "GA ", "same")
 
